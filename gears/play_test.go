@@ -83,9 +83,10 @@ func TestPlay(t *testing.T) {
 
 // P7.1, W13: a product that is too large is ErrLimit, also if the sum behind it would not be.
 func TestPlayOfLargeProducts(t *testing.T) {
-	x := trainOf(mesh(1, 3125, 1), mesh(1, 1024, 1))
-	wide := times(rat(1, 3125*1000), rat(1, 1024))
-	want(t, "the product is too large", isLarge(wide), true)
+	x := trainOf(mesh(1, 1024, 1), mesh(1, 3125, 1))
+	carried := times(rat(1, 1000*1024), rat(1, 3125))
+	want(t, "the product is too large", isLarge(carried), true)
+	want(t, "the sum is not", isLarge(plus(carried, rat(1, 1000*3125))), false)
 	p, e := gears.Play(x)
 	wantBoth(t, "Play", p, e, api.Ratio{}, api.ErrLimit)
 }
