@@ -6,6 +6,7 @@ import (
 
 	"millrind/api"
 	"millrind/history"
+	"millrind/numbers"
 )
 
 // Encode returns a note as bytes.
@@ -39,32 +40,21 @@ func behind(n *api.Note) []*int { return []*int{&n.Ref.House, &n.Ref.Num, &n.Fix
 
 func appendNote(b []byte, n api.Note) []byte {
 	for _, number := range ahead(&n) {
-		b = appendNumber(b, *number)
+		b = numbers.Append(b, *number)
 	}
 	b = appendList(b, n.Strokes)
 	for _, number := range behind(&n) {
-		b = appendNumber(b, *number)
+		b = numbers.Append(b, *number)
 	}
 	return b
 }
 
 func appendList(b []byte, l []int) []byte {
-	b = appendNumber(b, len(l))
+	b = numbers.Append(b, len(l))
 	for _, n := range l {
-		b = appendNumber(b, n)
+		b = numbers.Append(b, n)
 	}
 	return b
-}
-
-func appendNumber(b []byte, n int) []byte {
-	u := uint64(n) << 1
-	if n < 0 {
-		u = ^u // -2 * n - 1
-	}
-	for ; u >= 128; u >>= 7 {
-		b = append(b, byte(u)|128)
-	}
-	return append(b, byte(u))
 }
 
 func nameOf(n api.Note) api.Name { return api.Name{House: n.House, Num: n.Num} }

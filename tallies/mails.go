@@ -1,6 +1,9 @@
 package tallies
 
-import "millrind/api"
+import (
+	"millrind/api"
+	"millrind/numbers"
+)
 
 // The numbers with which messages begin.
 const (
@@ -32,13 +35,13 @@ func open(f api.Frame, m api.Mail) (message, api.Errno) {
 	return x, e
 }
 
-func askOf(counts []int) []byte { return appendList(appendNumber(nil, anAsk), counts) }
+func askOf(counts []int) []byte { return appendList(numbers.Append(nil, anAsk), counts) }
 
 func giftOf(notes []api.Note) []byte {
-	b := appendNumber(appendNumber(nil, aGift), len(notes))
+	b := numbers.Append(numbers.Append(nil, aGift), len(notes))
 	for _, n := range notes {
 		note := appendNote(nil, n)
-		b = append(appendNumber(b, len(note)), note...)
+		b = append(numbers.Append(b, len(note)), note...)
 	}
 	return b
 }

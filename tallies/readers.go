@@ -1,6 +1,9 @@
 package tallies
 
-import "millrind/api"
+import (
+	"millrind/api"
+	"millrind/numbers"
+)
 
 // reader reads what was encoded; it is left by a panic where the bytes are no encoding.
 type reader struct{ rest []byte }
@@ -33,20 +36,9 @@ func (r *reader) take(size int) []byte {
 }
 
 func (r *reader) number() int {
-	u := uint64(0)
-	for shift := 0; ; shift += 7 {
-		r.need(shift < 63)
-		b := r.take(1)[0]
-		u |= uint64(b&127) << shift
-		if b < 128 {
-			r.need(b > 0 || shift == 0) // no more bytes than are needed
-			break
-		}
-	}
-	n := int(u >> 1)
-	if u%2 == 1 {
-		n = -n - 1
-	}
+	n, rest, is := numbers.Take(r.rest)
+	r.need(is)
+	r.rest = rest
 	return n
 }
 
